@@ -1,0 +1,74 @@
+"""The interface: the names, the files in which they are defined, their arguments; by position and by name."""
+
+import copy
+import importlib
+import inspect
+
+from tests.cases import Case
+from tests.samples import EVERY
+
+FUNCTIONS = {
+    "laws": {
+        "after": ("rule", "word"), "lets": ("rule", "loss"), "begins": ("rule", "word"), "some_loss": ("rule",),
+        "shows_some_loss": ("rule", "value")},
+    "losses": {
+        "least": ("loss",), "are_alike": ("one", "other"), "letters_of": ("loss", "many"), "tail": ("loss",),
+        "shifted": ("loss", "word")},
+    "rows": {
+        "place": ("word",), "word_at": ("rounds", "at"), "numbers": ("word",), "neighbours": ("word",),
+        "blind": ("one", "other"), "whole_row": ("rounds",)},
+}
+CLASSES = {"laws": {"Law": ("__init__", "__eq__", "__len__")}}
+RIGHT = {
+    "rule": EVERY, "word": "nf", "loss": ("n", "fs"), "value": ("", "n"), "one": "nf", "other": "fs", "many": 3,
+    "rounds": 2, "at": 4}
+
+
+def right_values(name, parameters):
+    """Right arguments for the function of this name, by their names."""
+    told = {parameter: RIGHT[parameter] for parameter in parameters}
+    return {"one": ("", "n"), "other": ("", "f")} if name == "are_alike" else told
+
+
+class Interface(Case):
+    def each_function(self):
+        for module, table in FUNCTIONS.items():
+            for name, parameters in table.items():
+                yield module, name, getattr(importlib.import_module("twofarplayers." + module), name), parameters
+
+    def test_functions_are_defined_in_their_files(self):
+        for module, name, function, parameters in self.each_function():
+            self.assertTrue(inspect.isfunction(function))
+            self.assertEqual((function.__module__, function.__name__), ("twofarplayers." + module, name))
+            self.assertEqual(tuple(inspect.signature(function).parameters), parameters)
+
+    def test_classes_are_defined_in_their_files(self):
+        for module, table in CLASSES.items():
+            for name, methods in table.items():
+                found = getattr(importlib.import_module("twofarplayers." + module), name)
+                self.assertEqual((found.__module__, found.__name__), ("twofarplayers." + module, name))
+                for method in methods:
+                    self.assertIn(method, vars(found))
+
+    def test_arguments_by_position_and_by_name(self):
+        for _, name, function, parameters in self.each_function():
+            told = right_values(name, parameters)
+            row = [told[parameter] for parameter in parameters]
+            by_position = function(*row)
+            self.assertEqual(by_position, function(**told))
+            self.assertEqual(by_position, function(*row[:1], **{word: told[word] for word in parameters[1:]}))
+            self.assertEqual(by_position, function(**dict(reversed(list(told.items())))))
+
+    def test_nothing_handed_in_is_changed(self):
+        wrong = [[], ["n", "f"], {}, {"n": ["f"]}, [["n"], {"f": [1]}], (["n"], {"f": []}), ("", ["n"])]
+        for _, name, function, parameters in self.each_function():
+            for parameter in parameters:
+                for value in wrong if parameter != "rule" else ():
+                    told = {**right_values(name, parameters), parameter: value}
+                    kept = copy.deepcopy(value)
+                    try:
+                        function(**told)
+                    except ValueError as error:
+                        self.assertIs(error.value, value)
+                    self.assertEqual(value, kept)
+        self.assertEqual(EVERY.text, "law\nstate a often\non n a\non f a\non s a")

@@ -1,0 +1,1 @@
+"""Twofarplayers: two players, far apart, over a road that loses letters."""

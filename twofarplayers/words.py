@@ -1,0 +1,50 @@
+"""What all modules mean by fates, words, losses, integers and names, and how they refuse what is none."""
+
+from twofarplayers.errors import BadLoss, BadNumber, BadWord
+
+FATES = "nfs"
+LETTERS = "abcdefghijklmnopqrstuvwxyz"
+MOST_FATES = 200
+MOST_ROUNDS = 200
+MOST_LETTERS = 6
+
+
+def is_name(value):
+    """Whether this is a string of 1 to 6 letters a to z."""
+    return type(value) is str and 1 <= len(value) <= MOST_LETTERS and all([sign in LETTERS for sign in value])
+
+
+def is_whole(value):
+    """Whether this is an integer; True and False are none."""
+    return type(value) is int
+
+
+def is_word(value):
+    """Whether this is a word that is short enough to be handed in."""
+    return type(value) is str and len(value) <= MOST_FATES and all([sign in FATES for sign in value])
+
+
+def is_loss(value):
+    """Whether this is a loss that is short enough to be handed in."""
+    if type(value) is not tuple or len(value) != 2:
+        return False
+    head, ring = value
+    return is_word(head) and is_word(ring) and ring != ""
+
+
+def need_word(value):
+    """Refuse what is no word."""
+    if not is_word(value):
+        raise BadWord(value)
+
+
+def need_loss(value):
+    """Refuse what is no loss."""
+    if not is_loss(value):
+        raise BadLoss(value)
+
+
+def need_number(value, most):
+    """Refuse what is no integer from 0 to most."""
+    if not is_whole(value) or not 0 <= value <= most:
+        raise BadNumber(value)
