@@ -8,6 +8,7 @@ from twofarplayers.laws import Law
 FATES = "nfs"
 EVERY = Law("law\nstate a often\non n a\non f a\non s a")
 NEVER = Law("law\nstate z\non n z\non f z\non s z")
+SURE = Law("law\nstate g often\non n g\non f b\non s b\nstate b\non n b\non f b\non s b")
 
 NO_INTEGERS = (True, False, None, "1", "", (1,), (), [1], {}, {1: 1}, EVERY)
 NO_STRINGS = (0, 1, True, False, None, ["law"], ("law",), (), {}, {"law": "law"}, EVERY)
@@ -18,6 +19,34 @@ NO_LOSSES = (
     {}, {"n": "f"}, EVERY, (("", "n"),), ("", "n", ""), ("", ("n",)), (("n",), "f"), ("", ["n"]), (["n"], "n"),
     ("", None), (None, "n"), (0, 1), (False, True), ("a", "n"), ("n", "a"), ("", "N"), ("n ", "n"), ("", "n\n"),
     ("", "-"), ("-", "n"), ("n" * 201, "n"), ("", "n" * 201), ("n" * 201, "n" * 201), (EVERY, "n"), ("n", EVERY))
+WISHES = ((0, 0), (0, 1), (1, 0), (1, 1))
+NO_WISHES = (
+    0, 1, None, True, "", "01", (), (0,), (1,), (0, 1, 1), (0, 0, 0), [0, 1], [], {}, {0: 1}, EVERY, (True, 0), (0, True),
+    (False, 1), (1, False), (False, True), (2, 0), (0, 2), (-1, 0), (1, -1), ("0", "1"), (0, "1"), ("", 0), (None, 0),
+    (0, None), ((0,), (1,)), ((0, 1),), ((0, 1), 1), (0, [1]), ([0], 1), (EVERY, 0), (10 ** 11, 0))
+# Losses that stand alone in the row, and twins, each told in several ways.
+LONE = (("", "n"), ("nnn", "nn"), ("", "nf"), ("s", "fn"), ("ffs", "sn"), ("", "f"), ("ff", "fff"), ("", "s"), ("s", "ss"),
+        ("nfs", "nfs"), ("", "fs"), ("f", "n"), ("ssf", "sf"))
+TWINS = ((("f", "s"), ("n", "s")), (("s", "f"), ("n", "f")), (("nns", "f"), ("nnn", "f")), (("fss", "ss"), ("n", "sss")),
+         (("sfn", "s"), ("sff", "s")), (("ffn", "f"), ("ffsff", "ff")), (("nfsn", "f"), ("nfssf", "f")))
+NO_BARRED = tuple(value for value in NO_LOSSES if value != (("", "n"),)) + tuple((value,) for value in NO_LOSSES) + (
+    ("", "n"), ("", "f"), (("f", "s"),), (("n", "s"),), (("s", "f"),), (("nnf", "ss"),), (("nsf", "s"), ("", "n")),
+    (("", "f"), ("", "s")), (("", "n"), ("", "n")), (("", "s"), ("", "s")), (("f", "s"), ("f", "s")), (("f", "s"), ("fs", "s")),
+    (("f", "s"), ("nn", "s")), (("f", "s"), ("s", "f")), (("f", "s"), ("n", "f")), (("fs", "f"), ("fn", "s")),
+    (("f", "s"), ("n", "s"), ("n", "s")), (("", "n"), ("", "f"), ("", "s")), (("", "n"), None), (None, ("", "n")),
+    [("", "n")], [("f", "s"), ("n", "s")], (["f", "s"], ("n", "s")), (("f", "s"), ["n", "s"]), {("", "n"): True},
+    ((("f", "s"), ("n", "s")),), (("", "nf" * 101),), (("f", "s" * 201), ("n", "s")), (("f", "s"), ("n" + "s" * 200, "s")),
+    "yes", ("yes", (("", "n"),)))
+
+
+# Values that no function tells, and that are only nearly made of what they tell.
+VALUES = NO_LOSSES + NO_WISHES + WISHES + NO_STRINGS + NO_INTEGERS + (
+    -1, 10 ** 11, "yes", "no", "all", "broken", "whole", "f", "s", ("yes",), ("no",), ("yes", None), ("no", None),
+    ("yes", "no"), ["no", ()], ["yes", (("", "n"),)], ("yes", [("", "n")]), ("no", []), ("no", {}), ("no", (), ()),
+    ("no", ((),)), ("No", ()), ("no ", ()), (True, ()), (None, ()), ((), "no"), (("no", ()),), ("yes", ()), ("", ()),
+    ("broken",), ("broken", None), ("broken", ()), ("broken", ("",)), ["broken", ""], ("whole",), ("whole", []),
+    ("whole", None), ("whole", "a"), ("broken", "", ""), (EVERY, ()), ("no", EVERY), ("yes", EVERY), ("yes", (EVERY,)),
+    ("broken", EVERY), ("whole", (EVERY,)), {"no": ()}, {"yes": ()}, [()], [[]], [None], ((((),),),), (0, 1, 2, 3))
 
 
 def words_of(length):
@@ -59,18 +88,18 @@ class Machine:
             lines.extend("on " + fate + " " + self.names[goal] for fate, goal in zip(FATES, row))
         return "\n".join(lines)
 
-    def path(self, word):
+    def path(self, word, start=0):
         """The states from the start on, one more than the word has fates."""
-        path = [0]
+        path = [start]
         for fate in word:
             path.append(self.goals[path[-1]][FATES.index(fate)])
         return path
 
-    def lets(self, loss):
+    def lets(self, loss, start=0):
         """By going so far that nothing new can come, and then once more as far."""
         head, ring = loss
         far = len(head) + len(ring) * self.size
-        path = self.path(letters(loss, far + len(ring) * self.size))
+        path = self.path(letters(loss, far + len(ring) * self.size), start)
         return any(self.often[state] for state in path[far + 1:])
 
     def reached(self):
@@ -90,6 +119,35 @@ class Machine:
 
     def begins(self, word):
         return self.path(word)[-1] in self.living()
+
+
+def barring(losses):
+    """A machine that bars just the losses that are alike to one of these."""
+    rows = [letters(loss, len(loss[0]) + len(loss[1])) for loss in losses]
+    starts = tuple(0 for _ in losses)
+    found, goals = {starts: 0}, []
+    while len(goals) < len(found):
+        places, row = list(found)[len(goals)], []
+        for fate in FATES:
+            ahead = tuple(
+                None if at is None or word[at] != fate else at + 1 if at + 1 < len(word) else len(loss[0])
+                for at, word, loss in zip(places, rows, losses))
+            row.append(found.setdefault(ahead, len(found)))
+        goals.append(tuple(row))
+    # What is on no barred loss any more lets all.
+    return Machine(goals, [set(places) <= {None} for places in found])
+
+
+def turned(machine):
+    """The machine with f and s exchanged."""
+    return Machine([(n, s, f) for n, f, s in machine.goals], machine.often)
+
+
+def nested(value, deep):
+    """Tuples around the value, so many deep."""
+    for _ in range(deep):
+        value = (value,)
+    return value
 
 
 def machines_of_two():
@@ -113,6 +171,22 @@ def drawn_machines(size, many, seed):
         goals = [tuple(chance.randrange(lowest[state], size) for _ in FATES) for state in range(size)]
         often = [chance.randrange(3) == 0 for _ in range(size)]
         found.append(Machine(goals, often))
+    return found
+
+
+def mild_machines(size, many, seed):
+    """So many machines that bar little: both ends are let, and what is not often leads on, or back by one fate alone."""
+    chance = random.Random(seed)
+    last = size - 1
+    found = []
+    for _ in range(many):
+        often = [True] + [chance.randrange(4) == 0 for _ in range(size - 2)] + [True]
+        goals = [[1, last, last]]
+        for state in range(1, last):
+            goals.append([chance.randrange(state + 1, size) for _ in FATES])
+            if chance.randrange(2):
+                goals[state][chance.choice((1, 1, 2))] = chance.randrange(max(1, state - 1), state + 1)
+        found.append(Machine([tuple(row) for row in goals] + [(last,) * 3], often))
     return found
 
 

@@ -37,6 +37,61 @@
 [('second',), ('first',), (), ('first', 'second')]
 >>> [numbers('s' * 5), numbers('f' * 5), place('nnn'), word_at(20, 3 ** 20 - 1) == 'f' * 20]
 [(0, 1), (242, 243), 13, True]
+
+>>> from twofarplayers.twins import are_twins, distance, twins
+>>> [twins(('f', 's')), twins(('nn', 'sss')), twins(('s', 'ff')), twins(('', 's')), twins(('fs', 's')), twins(('', 'sf'))]
+[(('n', 's'),), (('nf', 's'),), (('n', 'f'),), (), (('n', 's'),), ()]
+>>> [are_twins(('f', 's'), ('n', 'ss')), are_twins(('f', 's'), ('f', 's')), are_twins(('s', 'f'), ('f', 's'))]
+[True, False, False]
+>>> [[distance(('f', 's'), ('n', 's'), rounds) for rounds in (0, 1, 2, 9)], [distance(('', 's'), ('', 'n'), rounds) for rounds in range(5)]]
+[[0, 1, 1, 1], [0, 1, 4, 13, 40]]
+>>> distance(('', 'sf'), ('', 'fs'), 2)
+4
+
+>>> from twofarplayers.laws import Law, lets
+>>> from twofarplayers.verdicts import bars_fair, bars_twins, can_agree, shows_can_agree
+>>> all_let = Law('law\\nstate a often\\non n a\\non f a\\non s a')
+>>> [can_agree(all_let), bars_fair(all_let), bars_twins(all_let)]
+[('no', ()), None, None]
+>>> again = Law('law\\nstate a\\non n a\\non f b\\non s b\\nstate b often\\non n a\\non f b\\non s b')
+>>> [can_agree(again)[0], shows_can_agree(again, ('yes', (('', 'n'),))), shows_can_agree(again, ('yes', (('fs', 'nn'),))), shows_can_agree(again, ('yes', (('', 'nf'),)))]
+['yes', True, True, False]
+>>> once = Law('law\\nstate a often\\non n b\\non f b\\non s a\\nstate b often\\non n c\\non f c\\non s d\\nstate c often\\non n c\\non f c\\non s c\\nstate d\\non n c\\non f c\\non s d')
+>>> [lets(once, loss) for loss in (('f', 's'), ('n', 's'), ('', 's'), ('sf', 's'))]
+[False, False, True, False]
+>>> [can_agree(once)[0], shows_can_agree(once, ('yes', (('f', 's'), ('n', 's')))), shows_can_agree(once, ('yes', (('f', 's'),)))]
+['yes', True, False]
+>>> one_of_both = Law(once.text.replace('on n b', 'on n c'))
+>>> [lets(one_of_both, ('f', 's')), lets(one_of_both, ('n', 's')), can_agree(one_of_both)[0], shows_can_agree(one_of_both, ('no', (('d', 0, 's'),)))]
+[False, True, 'no', True]
+
+>>> from twofarplayers.talks import mark, talk, talked
+>>> never = (('', 'n'),)
+>>> [[mark(never, rounds) for rounds in range(4)], talk(never, (0, 1), ('', 'f'), 9), talk(never, (0, 1), ('', 's'), 9)]
+[[0, 1, 4, 13], ((2, 1), (1, 1)), ((2, 0), (2, 0))]
+>>> [talk(never, (0, 1), ('n', 'f'), 9), talk(never, (1, 0), ('n', 'f'), 2), talk(never, (1, 0), ('nn', 'n'), 200)]
+[((3, 0), (3, 0)), (None, None), (None, None)]
+>>> talked(never, ('', 'f'), 3)
+((0, 0, 1), (1, 2, 3), (4, 6, None), (13, None, None))
+>>> twins = (('f', 's'), ('n', 's'))
+>>> [[mark(twins, rounds) for rounds in range(4)], talk(twins, (0, 1), ('', 'n'), 9), talk(twins, (0, 1), ('', 's'), 9), talk(twins, (0, 1), ('n', 's'), 99)]
+[[0, 2, 6, 18], ((2, 0), (3, 0)), ((1, 0), (2, 0)), (None, None)]
+
+>>> from twofarplayers.laws import Law
+>>> from twofarplayers.rounds import barred_beginning, barred_places, cut, ended, least_rounds, many_beginnings, shows_why_rounds, why_rounds
+>>> sure = Law('law\\nstate g often\\non n g\\non f b\\non s b\\nstate b\\non n b\\non f b\\non s b')
+>>> again = Law('law\\nstate g often\\non n g\\non f h\\non s g\\nstate h\\non n g\\non f h\\non s g')
+>>> [barred_beginning(sure), least_rounds(sure), many_beginnings(sure, 3), barred_places(sure, 1), cut(sure, 1)]
+['f', 1, 1, (0, 2), 0]
+>>> [barred_beginning(again), least_rounds(again), many_beginnings(again, 3), barred_places(again, 2)]
+[None, None, 27, ()]
+>>> [ended(sure, 1, (0, 1), 'n'), why_rounds(sure)[0], shows_why_rounds(sure, ('broken', 's')), shows_why_rounds(sure, ('broken', 'nf'))]
+[1, 'broken', True, False]
+>>> [why_rounds(again)[0], shows_why_rounds(again, ('whole', (('g', ('', 'n')), ('h', ('ff', 's'))))), shows_why_rounds(again, ('whole', (('g', ('', 'f')), ('h', ('', 'n')))))]
+['whole', True, False]
+>>> once = Law('law\\nstate g often\\non n g\\non f h\\non s h\\nstate h often\\non n h\\non f b\\non s b\\nstate b\\non n b\\non f b\\non s b')
+>>> [barred_beginning(once), least_rounds(once), many_beginnings(once, 2), barred_places(once, 2), cut(once, 2), ended(once, 2, (0, 1), 'nn'), ended(once, 2, (0, 1), 'sn')]
+['ff', 2, 5, (0, 2, 6, 8), 0, 1, 1]
 """
 
 import doctest
@@ -44,16 +99,21 @@ import pathlib
 import sys
 
 from tests.cases import Case
+from tests.samples import SURE
 from twofarplayers.errors import BadLaw, TooLong
 from twofarplayers.laws import begins, Law, lets
 from twofarplayers.losses import least, shifted
-from twofarplayers.rows import numbers
+from twofarplayers.rounds import barred_places, many_beginnings
+from twofarplayers.rows import numbers, place
+from twofarplayers.talks import talked
+from twofarplayers.twins import twins
+from twofarplayers.verdicts import can_agree, shows_can_agree
 
 
 class Examples(Case):
     def test_examples(self):
         found = doctest.testmod(sys.modules[__name__])
-        self.assertEqual((found.failed, found.attempted), (0, 21))
+        self.assertEqual((found.failed, found.attempted), (0, 54))
 
     def test_examples_of_the_readme(self):
         readme = pathlib.Path(__file__).resolve().parent.parent / "README.md"
@@ -79,3 +139,39 @@ class Examples(Case):
     def test_remarks_on_rows(self):
         self.told((2, 1), numbers, "n")
         self.told((4, 3), numbers, "nf")
+
+    def test_remarks_on_twins(self):
+        for rounds in range(10):
+            self.told(0, place, "s" * rounds)
+        self.told((), twins, ("", "s"))
+        self.assertEqual([place("sf"), place("fs")], [2, 6])
+
+    def test_remarks_on_verdicts(self):
+        once = Law("law\nstate a often\non n b\non f b\non s a\nstate b often\non n c\non f c\non s d\nstate c often\n"
+                   "on n c\non f c\non s c\nstate d\non n c\non f c\non s d")
+        for loss in (("f", "s"), ("sf", "s"), ("ssn", "s"), ("n", "s")):
+            self.told(False, lets, once, loss)
+        for loss in (("", "s"), ("ff", "s"), ("sfsn", "s"), ("f", "sn"), ("", "n")):
+            self.told(True, lets, once, loss)
+        f_alone = Law(once.text.replace("on n b", "on n c"))
+        for loss in (("f", "s"), ("sf", "s")):
+            self.told(False, lets, f_alone, loss)
+        self.assertEqual(can_agree(f_alone)[0], "no")
+        self.told(False, shows_can_agree, f_alone, ("yes", (("f", "s"), ("n", "s"))))
+
+    def test_remarks_on_talks(self):
+        # The first one hears the second one's 1, and has 2; the second one, two above the mark, ends on its own wish.
+        self.told((1, 2, 3), lambda: talked((("", "n"),), ("", "f"), 1)[1])
+        self.told((4, 6, None), lambda: talked((("", "n"),), ("", "f"), 2)[2])
+        for rounds, places in ((1, [2, 1]), (2, [6, 5])):
+            self.assertEqual([place("fs"[:rounds]), place("ns"[:rounds])], places)
+
+    def test_remarks_on_rounds(self):
+        once = Law("law\nstate g often\non n g\non f h\non s h\nstate h often\non n h\non f b\non s b\n"
+                   "state b\non n b\non f b\non s b")
+        for rounds in (0, 1, 2, 200):
+            self.told(1, many_beginnings, SURE, rounds)
+        for loss, (one, other) in ((("", "n"), (True, True)), (("nf", "n"), (False, True)), (("fs", "n"), (False, False))):
+            self.told(one, lets, SURE, loss)
+            self.told(other, lets, once, loss)
+        self.told(tuple(place(word) for word in ("ss", "sf", "fs", "ff")), barred_places, once, 2)

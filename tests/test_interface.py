@@ -5,7 +5,7 @@ import importlib
 import inspect
 
 from tests.cases import Case
-from tests.samples import EVERY
+from tests.samples import EVERY, SURE
 
 FUNCTIONS = {
     "laws": {
@@ -17,17 +17,29 @@ FUNCTIONS = {
     "rows": {
         "place": ("word",), "word_at": ("rounds", "at"), "numbers": ("word",), "neighbours": ("word",),
         "blind": ("one", "other"), "whole_row": ("rounds",)},
+    "twins": {"twins": ("loss",), "are_twins": ("one", "other"), "distance": ("one", "other", "rounds")},
+    "verdicts": {
+        "bars_fair": ("rule",), "bars_twins": ("rule",), "can_agree": ("rule",), "shows_can_agree": ("rule", "value")},
+    "rounds": {
+        "barred_beginning": ("rule",), "least_rounds": ("rule",), "why_rounds": ("rule",),
+        "shows_why_rounds": ("rule", "value"), "many_beginnings": ("rule", "rounds"), "barred_places": ("rule", "rounds"),
+        "cut": ("rule", "rounds"), "ended": ("rule", "rounds", "wishes", "word")},
+    "talks": {
+        "mark": ("barred", "rounds"), "talk": ("barred", "wishes", "loss", "most"), "talked": ("barred", "loss", "rounds")},
 }
 CLASSES = {"laws": {"Law": ("__init__", "__eq__", "__len__")}}
 RIGHT = {
     "rule": EVERY, "word": "nf", "loss": ("n", "fs"), "value": ("", "n"), "one": "nf", "other": "fs", "many": 3,
-    "rounds": 2, "at": 4}
+    "rounds": 2, "at": 4, "barred": (("", "nf"),), "wishes": (0, 1), "most": 5}
+# Where other ones are right.
+LOSSES = {"one": ("f", "s"), "other": ("nn", "f")}
+OTHERS = {
+    "are_alike": LOSSES, "are_twins": LOSSES, "distance": LOSSES, "cut": {"rule": SURE}, "ended": {"rule": SURE, "word": "nn"}}
 
 
 def right_values(name, parameters):
     """Right arguments for the function of this name, by their names."""
-    told = {parameter: RIGHT[parameter] for parameter in parameters}
-    return {"one": ("", "n"), "other": ("", "f")} if name == "are_alike" else told
+    return {parameter: OTHERS.get(name, {}).get(parameter, RIGHT[parameter]) for parameter in parameters}
 
 
 class Interface(Case):

@@ -92,6 +92,14 @@ class Source(Case):
                 if isinstance(node, ast.BinOp) and isinstance(node.op, ast.Pow):
                     self.assertIsInstance(node.right, ast.Constant, name)
 
+    def test_values_of_modules(self):
+        for name, _, tree in files():
+            for node in tree.body:
+                if isinstance(node, ast.Assign):
+                    # Lists and dicts hold no lists and dicts, and tuples neither.
+                    inner = [part for part in ast.walk(node.value) if part is not node.value]
+                    self.assertFalse([part for part in inner if isinstance(part, (ast.List, ast.Dict, ast.Set))], name)
+
     def test_names(self):
         # Python itself sets _ there, in a session, and in examples that are tested.
         known = set(dir(builtins)) - {"_"}

@@ -115,8 +115,8 @@ def lets_ring(rule, state, ring):
     return any(marks[turns[state]:])
 
 
-def ways_from(rule, state):
-    """By each state to which some way of one fate or more leads from this one: a shortest such way."""
+def ways_from(rule, state, within):
+    """Shortest ways of one fate or more from the state, through these states alone, by that to which each leads."""
     ways = {}
     edge = [(state, "")]
     while edge:
@@ -124,23 +124,40 @@ def ways_from(rule, state):
         for name, word in edge:
             for fate in FATES:
                 goal = rule.steps[name][fate]
-                if goal not in ways:
+                if goal in within and goal not in ways:
                     ways[goal] = word + fate
                     ahead.append((goal, word + fate))
         edge = ahead
     return ways
 
 
+def words_from(rule, state, within):
+    """What ways_from tells, but to the state itself the word without fates leads."""
+    words = ways_from(rule, state, within)
+    words[state] = ""
+    return words
+
+
+def reached(rule):
+    """By each state to which some word leads: a shortest such word."""
+    return words_from(rule, rule.names[0], rule.steps)
+
+
 def loss_from(rule, state):
     """Some loss that is let from this state on, as if it were the start; None if there is none."""
-    ways = ways_from(rule, state)
-    heads = {**ways, state: ""}
+    heads = words_from(rule, state, rule.steps)
     for name in heads:
         if rule.marked[name]:
-            ring = ways_from(rule, name).get(name)
+            ring = ways_from(rule, name, rule.steps).get(name)
             if ring is not None:
                 return (heads[name], ring)
     return None
+
+
+def lets_from(rule, state, loss):
+    """Whether the loss is let from this state on, as if it were the start."""
+    head, ring = loss
+    return lets_ring(rule, state_behind(rule, state, head), ring)
 
 
 def after(rule, word):
@@ -152,8 +169,7 @@ def after(rule, word):
 def lets(rule, loss):
     """Whether the rule lets the loss."""
     need_loss(loss)
-    head, ring = loss
-    return lets_ring(rule, state_behind(rule, rule.names[0], head), ring)
+    return lets_from(rule, rule.names[0], loss)
 
 
 def begins(rule, word):

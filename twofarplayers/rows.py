@@ -18,12 +18,22 @@ def width(rounds):
     return many
 
 
+def place_behind(at, fate):
+    """The place of a word with this fate more than the one with this place."""
+    return 3 * at + BEHIND[at % 2].index(fate)
+
+
+def places_along(word):
+    """The places of all beginnings of a word of any length, that without fates and the word itself among them."""
+    places = [0]
+    for fate in word:
+        places.append(place_behind(places[-1], fate))
+    return places
+
+
 def place_of(word):
     """The place of a word of any length."""
-    at = 0
-    for fate in word:
-        at = 3 * at + BEHIND[at % 2].index(fate)
-    return at
+    return places_along(word)[-1]
 
 
 def word_with(rounds, at):

@@ -1,6 +1,6 @@
-"""What all modules mean by fates, words, losses, integers and names, and how they refuse what is none."""
+"""What all modules mean by fates, words, losses, wishes, integers and names, and how they refuse what is none."""
 
-from twofarplayers.errors import BadLoss, BadNumber, BadWord
+from twofarplayers.errors import BadLoss, BadNumber, BadWishes, BadWord
 
 FATES = "nfs"
 LETTERS = "abcdefghijklmnopqrstuvwxyz"
@@ -32,6 +32,11 @@ def is_loss(value):
     return is_word(head) and is_word(ring) and ring != ""
 
 
+def is_wishes(value):
+    """Whether this is a wish of the first player and one of the second player, each 0 or 1."""
+    return type(value) is tuple and len(value) == 2 and all([is_whole(wish) and 0 <= wish <= 1 for wish in value])
+
+
 def need_word(value):
     """Refuse what is no word."""
     if not is_word(value):
@@ -42,6 +47,12 @@ def need_loss(value):
     """Refuse what is no loss."""
     if not is_loss(value):
         raise BadLoss(value)
+
+
+def need_wishes(value):
+    """Refuse what are no wishes."""
+    if not is_wishes(value):
+        raise BadWishes(value)
 
 
 def need_number(value, most):
