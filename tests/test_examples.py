@@ -92,6 +92,58 @@
 >>> once = Law('law\\nstate g often\\non n g\\non f h\\non s h\\nstate h often\\non n h\\non f b\\non s b\\nstate b\\non n b\\non f b\\non s b')
 >>> [barred_beginning(once), least_rounds(once), many_beginnings(once, 2), barred_places(once, 2), cut(once, 2), ended(once, 2, (0, 1), 'nn'), ended(once, 2, (0, 1), 'sn')]
 ['ff', 2, 5, (0, 2, 6, 8), 0, 1, 1]
+
+>>> from twofarplayers.pairs import begun, ends, heard, Pair, played
+>>> told = Pair('pair\\nfirst z o\\nstate z a 0 z z z z\\nstate o b 1 o o o o\\nsecond w w\\nstate w c - z o w w\\nstate z c 0 z z z z\\nstate o c 1 o o o o')
+>>> [told.first, told.second, begun(told, (1, 0)), heard(told, ('o', 'w'), 'n'), heard(told, ('o', 'w'), 'f'), heard(told, ('o', 'w'), 's')]
+[('z', 'o'), ('w', 'z', 'o'), ('o', 'w'), ('o', 'o'), ('o', 'w'), ('o', 'o')]
+>>> [played(told, (1, 0), word) for word in ('', 'f', 'ffs', 'fn')]
+[((0, 1), None), ((0, 1), None), ((0, 1), (3, 1)), ((0, 1), (2, 1))]
+>>> [ends(told, (0, 1), ('ff', 'n')), ends(told, (0, 1), ('', 'f'))]
+[((0, 0), (3, 0)), ((0, 0), None)]
+
+>>> from twofarplayers.judging import judged, latest, outcomes, shows_judged
+>>> from twofarplayers.laws import Law
+>>> from twofarplayers.pairs import Pair
+>>> told = Pair('pair\\nfirst z o\\nstate z a 0 z z z z\\nstate o b 1 o o o o\\nsecond w w\\nstate w c - z o w w\\nstate z c 0 z z z z\\nstate o c 1 o o o o')
+>>> sure = Law('law\\nstate g often\\non n g\\non f b\\non s b\\nstate b\\non n b\\non f b\\non s b')
+>>> again = Law('law\\nstate g often\\non n g\\non f h\\non s g\\nstate h\\non n g\\non f h\\non s g')
+>>> free = Law('law\\nstate g often\\non n g\\non f g\\non s g')
+>>> [judged(sure, told), latest(sure, told), judged(again, told), latest(again, told), outcomes(again, told, (1, 0))]
+[('good',), 1, ('good',), None, ((1, 1),)]
+>>> [judged(free, told)[0], shows_judged(free, told, ('bad', (0, 0), ('nnf', 'f'), 'never')), shows_judged(free, told, ('bad', (0, 1), ('', 'f'), 'never')), outcomes(free, told, (0, 1))]
+['bad', False, True, ((0, 0), (0, '-'))]
+>>> rash = Pair('pair\\nfirst z o\\nstate z a 0 z z z z\\nstate o b 1 o o o o\\nsecond z o\\nstate z a 0 z z z z\\nstate o b 1 o o o o')
+>>> [judged(sure, rash)[1:2] in (((0, 1),), ((1, 0),)), judged(sure, rash)[3], shows_judged(sure, rash, ('bad', (0, 1), ('nn', 'n'), 'unlike')), outcomes(sure, rash, (0, 0))]
+[True, 'unlike', True, ((0, 0),)]
+>>> odd = Pair('pair\\nfirst z z\\nstate z a 0 z z z z\\nsecond z z\\nstate z a 0 z z z z')
+>>> [judged(free, odd)[1], judged(free, odd)[3], latest(Law('law\\nstate z\\non n z\\non f z\\non s z'), odd)]
+[(1, 1), 'nobody', -1]
+
+>>> from twofarplayers.nearness import gap, near, needed, widest
+>>> worths = ((0, 1), (1, 1))
+>>> [near(worths, 'nf'), near(worths, 'sss'), near(worths, ''), gap(worths, 2), gap(worths, 0)]
+[((4, 9), (1, 3)), ((0, 1), (1, 27)), ((0, 1), (1, 1)), (1, 9), (1, 1)]
+>>> [needed(worths, (1, 100)), needed(worths, (1, 1)), needed(((5, 2), (5, 2)), (1, 9)), near(((7, 1), (-2, 1)), 'n')]
+[5, 0, 0, ((1, 1), (4, 1))]
+>>> widest(((0, 1), (0, 1), (1, 1), (1, 1)))
+('n', (1, 1))
+>>> [widest(((0, 1), (1, 3), (2, 3), (1, 1))), widest(((0, 1), (1, 2), (1, 2), (1, 1)))]
+[('s', (1, 3)), ('s', (1, 2))]
+
+>>> from twofarplayers.tasks import allowed, least_solving, shows_solved, solved, Task
+>>> rows = ['task', 'first x w', 'second y z', 'given x z ends a r', 'given w y ends c q']
+>>> apart = Task('\\n'.join(rows + ['given x y ends a p', 'given x y ends b p', 'given x y ends b q']))
+>>> [apart.first, apart.pairs, allowed(apart, 'x', 'y')]
+[('x', 'w'), (('w', 'y'), ('x', 'y'), ('x', 'z')), (('a', 'p'), ('b', 'p'), ('b', 'q'))]
+>>> [solved(apart, 0), least_solving(apart, 3), least_solving(apart, 0)]
+[('no',), 1, None]
+>>> solved(apart, 1)
+('yes', (('w', 'y', ('c', 'q', 'c', 'q')), ('x', 'y', ('a', 'p', 'b', 'q')), ('x', 'z', ('a', 'r', 'a', 'r'))))
+>>> ends = ['given o o ends o o', 'given i i ends i i', 'given o i ends o o', 'given o i ends i i', 'given i o ends o o', 'given i o ends i i']
+>>> alike = Task('\\n'.join(['task', 'first o i', 'second o i'] + ends))
+>>> [least_solving(alike, 5), shows_solved(alike, 2, ('no',)), shows_solved(apart, 2, ('no',)), solved(apart, 2)[0]]
+[None, True, False, 'yes']
 """
 
 import doctest
@@ -99,13 +151,19 @@ import pathlib
 import sys
 
 from tests.cases import Case
-from tests.samples import SURE
-from twofarplayers.errors import BadLaw, TooLong
+from tests.pair_samples import ODD, RASH, TOLD
+from tests.samples import EVERY, SURE
+from tests.test_tasks import ALIKE, APART
+from twofarplayers.errors import BadLaw, BadPair, TooLong
+from twofarplayers.judging import outcomes
 from twofarplayers.laws import begins, Law, lets
 from twofarplayers.losses import least, shifted
+from twofarplayers.nearness import near
+from twofarplayers.pairs import ends, heard, Pair
 from twofarplayers.rounds import barred_places, many_beginnings
 from twofarplayers.rows import numbers, place
 from twofarplayers.talks import talked
+from twofarplayers.tasks import solved, Task
 from twofarplayers.twins import twins
 from twofarplayers.verdicts import can_agree, shows_can_agree
 
@@ -113,7 +171,7 @@ from twofarplayers.verdicts import can_agree, shows_can_agree
 class Examples(Case):
     def test_examples(self):
         found = doctest.testmod(sys.modules[__name__])
-        self.assertEqual((found.failed, found.attempted), (0, 54))
+        self.assertEqual((found.failed, found.attempted), (0, 87))
 
     def test_examples_of_the_readme(self):
         readme = pathlib.Path(__file__).resolve().parent.parent / "README.md"
@@ -175,3 +233,34 @@ class Examples(Case):
             self.told(one, lets, SURE, loss)
             self.told(other, lets, once, loss)
         self.told(tuple(place(word) for word in ("ss", "sf", "fs", "ff")), barred_places, once, 2)
+
+    def test_remarks_on_pairs(self):
+        self.refused(BadPair, 4, Pair, "pair\nfirst z z\nstate z a 0 z z z z")
+        # The first player ends at once on its own wish, and calls it for ever; the second one ends on what it hears.
+        told = Pair(TOLD)
+        for one in (0, 1):
+            for other in (0, 1):
+                self.told(((0, one), (1, one)), ends, told, (one, other), ("", "n"))
+                self.told(((0, one), (6, one)), ends, told, (one, other), ("fffff", "s"))
+        self.told(("o", "o"), heard, told, ("o", "w"), "s")
+
+    def test_remarks_on_judging(self):
+        told, rash, odd = Pair(TOLD), Pair(RASH), Pair(ODD)
+        self.told(((0, 0), (1, 0)), ends, told, (0, 0), ("nnf", "f"))
+        self.told(((0, 0), None), ends, told, (0, 1), ("", "f"))
+        for one in (0, 1):
+            for other in (0, 1):
+                self.told(((one, other),), outcomes, EVERY, rash, (one, other))
+                self.told(((0, 0),), outcomes, EVERY, odd, (one, other))
+
+    def test_remarks_on_nearness(self):
+        self.told((4, 3), numbers, "nf")
+        self.told((2, 1), numbers, "n")
+        self.told(((1, 1), (4, 1)), near, ((7, 1), (-2, 1)), "n")
+
+    def test_remarks_on_tasks(self):
+        # x ends on a where it never heard, y on q: so three steps lead from a to q, by p and b.
+        _, rows = solved(Task(APART), 1)
+        self.assertEqual([row for one, other, row in rows if (one, other) == ("x", "y")], [("a", "p", "b", "q")])
+        for rounds in range(6):
+            self.told(("no",), solved, Task(ALIKE), rounds)

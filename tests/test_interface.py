@@ -5,7 +5,12 @@ import importlib
 import inspect
 
 from tests.cases import Case
+from tests.pair_samples import TOLD
 from tests.samples import EVERY, SURE
+from tests.test_tasks import APART
+from twofarplayers.laws import Law
+from twofarplayers.pairs import Pair
+from twofarplayers.tasks import Task
 
 FUNCTIONS = {
     "laws": {
@@ -26,15 +31,33 @@ FUNCTIONS = {
         "cut": ("rule", "rounds"), "ended": ("rule", "rounds", "wishes", "word")},
     "talks": {
         "mark": ("barred", "rounds"), "talk": ("barred", "wishes", "loss", "most"), "talked": ("barred", "loss", "rounds")},
+    "pairs": {
+        "begun": ("pair", "wishes"), "heard": ("pair", "states", "fate"), "played": ("pair", "wishes", "word"),
+        "ends": ("pair", "wishes", "loss")},
+    "judging": {
+        "judged": ("rule", "pair"), "shows_judged": ("rule", "pair", "value"), "latest": ("rule", "pair"),
+        "outcomes": ("rule", "pair", "wishes")},
+    "nearness": {
+        "near": ("worths", "word"), "gap": ("worths", "rounds"), "needed": ("worths", "distance"), "widest": ("ends",)},
+    "tasks": {
+        "allowed": ("task", "one", "other"), "solved": ("task", "rounds"), "shows_solved": ("task", "rounds", "value"),
+        "least_solving": ("task", "most")},
 }
-CLASSES = {"laws": {"Law": ("__init__", "__eq__", "__len__")}}
+CLASSES = {
+    "laws": {"Law": ("__init__", "__eq__", "__len__")}, "pairs": {"Pair": ("__init__", "__eq__")},
+    "tasks": {"Task": ("__init__", "__eq__")}}
+ATTRIBUTES = {
+    Law: ("text", "names", "often"), Pair: ("text", "first", "second"), Task: ("text", "first", "second", "pairs")}
 RIGHT = {
     "rule": EVERY, "word": "nf", "loss": ("n", "fs"), "value": ("", "n"), "one": "nf", "other": "fs", "many": 3,
-    "rounds": 2, "at": 4, "barred": (("", "nf"),), "wishes": (0, 1), "most": 5}
+    "rounds": 2, "at": 4, "barred": (("", "nf"),), "wishes": (0, 1), "most": 5, "pair": Pair(TOLD), "states": ("o", "w"),
+    "fate": "f", "worths": ((1, 2), (-3, 1)), "distance": (1, 100), "ends": ((0, 1), (1, 2)), "task": Task(APART)}
+OBJECTS = ("rule", "pair", "task")
 # Where other ones are right.
 LOSSES = {"one": ("f", "s"), "other": ("nn", "f")}
 OTHERS = {
-    "are_alike": LOSSES, "are_twins": LOSSES, "distance": LOSSES, "cut": {"rule": SURE}, "ended": {"rule": SURE, "word": "nn"}}
+    "are_alike": LOSSES, "are_twins": LOSSES, "distance": LOSSES, "cut": {"rule": SURE}, "ended": {"rule": SURE, "word": "nn"},
+    "latest": {"rule": SURE}, "allowed": {"one": "x", "other": "y"}}
 
 
 def right_values(name, parameters):
@@ -62,6 +85,13 @@ class Interface(Case):
                 for method in methods:
                     self.assertIn(method, vars(found))
 
+    def test_attributes_are_set_when_an_object_is_created(self):
+        for of_class, names in ATTRIBUTES.items():
+            text = {Law: EVERY.text, Pair: TOLD, Task: APART}[of_class]
+            for found in (of_class(text), of_class(text=text)):
+                self.assertLessEqual(set(names), set(vars(found)))
+                self.assertEqual(found.text, text)
+
     def test_arguments_by_position_and_by_name(self):
         for _, name, function, parameters in self.each_function():
             told = right_values(name, parameters)
@@ -75,12 +105,15 @@ class Interface(Case):
         wrong = [[], ["n", "f"], {}, {"n": ["f"]}, [["n"], {"f": [1]}], (["n"], {"f": []}), ("", ["n"])]
         for _, name, function, parameters in self.each_function():
             for parameter in parameters:
-                for value in wrong if parameter != "rule" else ():
+                for value in wrong if parameter not in OBJECTS else ():
                     told = {**right_values(name, parameters), parameter: value}
                     kept = copy.deepcopy(value)
                     try:
                         function(**told)
                     except ValueError as error:
-                        self.assertIs(error.value, value)
+                        self.assertTrue(error.value is value or type(error).__name__ == "NoPair")
                     self.assertEqual(value, kept)
         self.assertEqual(EVERY.text, "law\nstate a often\non n a\non f a\non s a")
+        self.assertEqual(vars(RIGHT["rule"]), vars(Law(EVERY.text)))
+        self.assertEqual(vars(RIGHT["task"]), vars(Task(APART)))
+        self.assertEqual([vars(machine) for machine in RIGHT["pair"].machines], [vars(machine) for machine in Pair(TOLD).machines])

@@ -14,6 +14,7 @@ BUILTINS = set(
 NOT_USED = set(
     "register mro elements open input law version_info with_traceback add_note compile copyright credits dir eval exec exit "
     "gc globals help id importlib license locals os quit vars sys".split())
+LIBRARY = {"math": ("gcd",)}
 STATEMENTS = (ast.AsyncFunctionDef, ast.AsyncFor, ast.AsyncWith, ast.Await, ast.Global, ast.Import, ast.Div)
 
 
@@ -69,7 +70,11 @@ class Source(Case):
         needs = {name: set() for name in trees}
         for name, tree in trees.items():
             for node in ast.walk(tree):
-                if isinstance(node, ast.ImportFrom):
+                # Of the library these alone may be imported, and are not of the package.
+                if isinstance(node, ast.ImportFrom) and node.module in LIBRARY:
+                    self.assertLessEqual({part.name for part in node.names}, set(LIBRARY[node.module]))
+                    self.assertFalse([part.asname for part in node.names if part.asname])
+                elif isinstance(node, ast.ImportFrom):
                     package, _, module = node.module.partition(".")
                     self.assertEqual((package, node.level), ("twofarplayers", 0))
                     self.assertLessEqual({part.name for part in node.names}, set(top_names(trees[module])))

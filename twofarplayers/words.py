@@ -19,17 +19,26 @@ def is_whole(value):
     return type(value) is int
 
 
+def is_made_of_fates(value):
+    """Whether this is a word of any length."""
+    return type(value) is str and all([sign in FATES for sign in value])
+
+
 def is_word(value):
     """Whether this is a word that is short enough to be handed in."""
-    return type(value) is str and len(value) <= MOST_FATES and all([sign in FATES for sign in value])
+    return type(value) is str and len(value) <= MOST_FATES and is_made_of_fates(value)
+
+
+def is_long_loss(value):
+    """Whether this is a loss of any length."""
+    if type(value) is not tuple or len(value) != 2:
+        return False
+    return all([is_made_of_fates(word) for word in value]) and value[1] != ""
 
 
 def is_loss(value):
     """Whether this is a loss that is short enough to be handed in."""
-    if type(value) is not tuple or len(value) != 2:
-        return False
-    head, ring = value
-    return is_word(head) and is_word(ring) and ring != ""
+    return is_long_loss(value) and all([len(word) <= MOST_FATES for word in value])
 
 
 def is_wishes(value):
