@@ -156,3 +156,14 @@ def calling(first):
     caller = [(0, 0, (0,) * 4), (1, 1, (1,) * 4)]
     waiter = [(2, None, (1, 2, 0, 0)), (2, 0, (1,) * 4), (2, 1, (2,) * 4)]
     return Duo(((0, 1), (0, 0)), [caller, waiter]) if first else Duo(((0, 0), (0, 1)), [waiter, caller])
+
+
+def by_wishes(ends):
+    """A pair that, where no letter is lost, ends behind one round, by its wishes, as this table tells (None for never)."""
+    states = []
+    for player in (0, 1):
+        # Two states to begin with, by the own wish; then one for each own wish with each one that is heard.
+        both = [(own, heard) if player == 0 else (heard, own) for own in (0, 1) for heard in (0, 1)]
+        begin = [(own, None, (2 + 2 * own, 3 + 2 * own, own, own)) for own in (0, 1)]
+        states.append(begin + [(2, ends[wishes][player], (at,) * 4) for at, wishes in enumerate(both, start=2)])
+    return Duo(((0, 1), (0, 1)), states)

@@ -144,6 +144,39 @@
 >>> alike = Task('\\n'.join(['task', 'first o i', 'second o i'] + ends))
 >>> [least_solving(alike, 5), shows_solved(alike, 2, ('no',)), shows_solved(apart, 2, ('no',)), solved(apart, 2)[0]]
 [None, True, False, 'yes']
+
+>>> from twofarplayers.lawlots import barring, both, either, lets_all, shows_lets_all, turned
+>>> from twofarplayers.laws import Law, lets
+>>> every = Law('law\\nstate a often\\non n a\\non f a\\non s a')
+>>> heard = Law('law\\nstate a\\non n b\\non f a\\non s a\\nstate b often\\non n b\\non f a\\non s a')
+>>> first = Law('law\\nstate a\\non n b\\non f a\\non s b\\nstate b often\\non n b\\non f a\\non s b')
+>>> [[lets(rule, loss) for loss in (('', 'n'), ('', 'sf'), ('n', 's'), ('', 'f'))] for rule in (every, heard, first)]
+[[True, True, True, True], [True, False, False, False], [True, True, True, False]]
+>>> [[lets(rule, loss) for loss in (('', 'sf'), ('', 's'), ('', 'f'))] for rule in (turned(first), both(first, turned(first)), either(first, turned(first)))]
+[[True, False, True], [True, False, False], [True, True, True]]
+>>> [[lets(rule, loss) for loss in (('n', 's'), ('f', 's'), ('nn', 's'))] for rule in (barring(every, ('n', 's')), barring(barring(every, ('n', 's')), ('f', 's')))]
+[[False, True, True], [False, False, True]]
+>>> [lets_all(heard, first), lets_all(every, first)[0], lets(first, lets_all(every, first)[1]), shows_lets_all(first, heard, ('parting', ('', 's')))]
+[('all',), 'parting', False, True]
+>>> [shows_lets_all(first, heard, ('all',)), shows_lets_all(first, heard, ('parting', ('', 'n'))), shows_lets_all(heard, first, ('all',))]
+[False, False, True]
+
+>>> from twofarplayers.bench import Bench
+>>> from twofarplayers.desk import Desk
+>>> from twofarplayers.journals import journal, read_journal
+>>> every, first = 'law\\nstate a often\\non n a\\non f a\\non s a', 'law\\nstate a\\non n b\\non f a\\non s b\\nstate b often\\non n b\\non f a\\non s b'
+>>> bench = Bench(every)
+>>> [bench.verdict, bench.bar(('n', 's')), bench.verdict, bench.bar(('f', 's')), bench.verdict, bench.done]
+['no', None, 'no', None, 'yes', 2]
+>>> [bench.undo(), bench.verdict, bench.redo(), bench.verdict, bench.tried(lambda held: [held.widen(every), held.verdict]), bench.verdict]
+[None, 'no', None, 'yes', [None, 'no'], 'yes']
+>>> journal(bench).split('\\n')[6:]
+['bar n s', 'bar f s']
+>>> desk = Desk('bench\\n' + first + '\\nturn')
+>>> [desk.say(line) for line in ('verdict', 'lets - s', 'lets s f', 'begins sss', 'rounds', 'meet ' + first.replace('\\n', ';'), 'lets - sf', 'lets - f', 'undo', 'lets - f')]
+['yes', 'no', 'yes', 'yes', 'none', 'ok', 'yes', 'no', 'ok', 'yes']
+>>> [read_journal(journal(bench)) == bench, bench.copy() == bench, Desk('bench\\nlaw\\nstate z\\non n z\\non f z\\non s z').say('rounds')]
+[True, True, '0']
 """
 
 import doctest
@@ -152,8 +185,11 @@ import sys
 
 from tests.cases import Case
 from tests.pair_samples import ODD, RASH, TOLD
-from tests.samples import EVERY, SURE
+from tests.samples import EVERY, NEVER, SURE
+from tests.test_bench import FIRST, HEARD
 from tests.test_tasks import ALIKE, APART
+from twofarplayers.bench import Bench
+from twofarplayers.desk import Desk
 from twofarplayers.errors import BadLaw, BadPair, TooLong
 from twofarplayers.judging import outcomes
 from twofarplayers.laws import begins, Law, lets
@@ -171,7 +207,7 @@ from twofarplayers.verdicts import can_agree, shows_can_agree
 class Examples(Case):
     def test_examples(self):
         found = doctest.testmod(sys.modules[__name__])
-        self.assertEqual((found.failed, found.attempted), (0, 87))
+        self.assertEqual((found.failed, found.attempted), (0, 108))
 
     def test_examples_of_the_readme(self):
         readme = pathlib.Path(__file__).resolve().parent.parent / "README.md"
@@ -264,3 +300,24 @@ class Examples(Case):
         self.assertEqual([row for one, other, row in rows if (one, other) == ("x", "y")], [("a", "p", "b", "q")])
         for rounds in range(6):
             self.told(("no",), solved, Task(ALIKE), rounds)
+
+    def test_remarks_on_lawlots(self):
+        # What has n again and again; what is not f from some round on.
+        for loss in (("", "n"), ("ff", "sn"), ("", "nfs")):
+            self.told(True, lets, Law(HEARD), loss)
+        for loss in (("n", "s"), ("", "fs"), ("nn", "f")):
+            self.told(False, lets, Law(HEARD), loss)
+        for loss in (("ff", "s"), ("", "fs"), ("nf", "fffn")):
+            self.told(True, lets, Law(FIRST), loss)
+        for loss in (("", "f"), ("nns", "ff")):
+            self.told(False, lets, Law(FIRST), loss)
+
+    def test_remarks_on_the_bench(self):
+        for losses, word in (([], "no"), ([("n", "s")], "no"), ([("f", "s")], "no"), ([("f", "s"), ("n", "s")], "yes")):
+            bench = Bench(EVERY.text)
+            for loss in losses:
+                bench.bar(loss)
+            self.assertEqual(bench.verdict, word)
+        desk = Desk("bench\n" + FIRST)
+        self.assertEqual([desk.say(line) for line in ("lets - s", "lets - f", "turn", "lets - s", "lets - f")], ["yes", "no", "ok", "no", "yes"])
+        self.assertEqual([Desk("bench\n" + NEVER.text).say(line) for line in ("begins -", "begins n", "rounds")], ["no", "no", "0"])

@@ -3,13 +3,14 @@
 import itertools
 
 from tests.cases import Case
-from tests.pair_samples import Duo, ODD, RASH, TOLD, calling, drawn_duos, hopeful_duos, waiting
+from tests.pair_samples import Duo, ODD, RASH, TOLD, by_wishes, calling, drawn_duos, hopeful_duos, waiting
 from tests.samples import (
     EVERY, LONE, Machine, NEVER, NO_LOSSES, NO_WISHES, SURE, TWINS, VALUES, WISHES, barring, drawn_machines, losses_up_to,
     machines_of_two, mild_machines, nested)
 from twofarplayers.errors import BadWishes, NotGood
 from twofarplayers.judging import judged, latest, outcomes, shows_judged
 from twofarplayers.laws import Law, lets
+from twofarplayers.losses import least
 from twofarplayers.pairs import Pair, ends
 from twofarplayers.rounds import least_rounds
 from twofarplayers.verdicts import can_agree
@@ -75,6 +76,29 @@ class Judged(Case):
             self.assertEqual(lets(machine.rule, told[2]), True)
             found = ends(duo.pair, told[1], told[2])
             self.assertTrue(goes_wrong(told[3], tuple(end and end[1] for end in found), told[1]))
+
+    def test_bad_with_some_wishes_alone(self):
+        good = {wishes: (wishes[0], wishes[0]) for wishes in WISHES}
+        self.told(("good",), judged, SURE, by_wishes(good).pair)
+        self.told(1, latest, SURE, by_wishes(good).pair)
+        for wishes in WISHES:
+            for values, words in (((0, 1), ("unlike",)), ((None, wishes[0]), ("never",)), ((wishes[1], None), ("never",)),
+                                  ((None, None), ("never",)), ((1 - wishes[0],) * 2, ("nobody",)), ((1, 0), ("unlike",))):
+                pair = by_wishes({**good, wishes: values}).pair
+                told = judged(SURE, pair)
+                if wishes[0] != wishes[1] and words == ("nobody",):
+                    self.assertEqual(told, ("good",))
+                    continue
+                if wishes[0] == wishes[1]:
+                    words += ("nobody",) if 1 - wishes[0] in values else ()
+                self.assertEqual((told[:2], least(told[2])), (("bad", wishes), ("", "n")))
+                self.assertIn(told[3], words)
+                self.refused(NotGood, None, latest, SURE, pair)
+                for other, word in itertools.product(WISHES, WORDS):
+                    right = other == wishes and word in words
+                    self.told(right, shows_judged, SURE, pair, ("bad", other, ("n", "nn"), word))
+                shown = tuple("-" if end is None else end for end in values)
+                self.told((shown,), outcomes, SURE, pair, wishes)
 
     def test_law_without_a_way(self):
         for machine in MACHINES:

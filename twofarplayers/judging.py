@@ -167,7 +167,7 @@ def shows_judged(rule, pair, value):
     if type(value) is not tuple:
         return False
     if len(value) == 1:
-        return value[0] == "good" and judged(rule, pair) == value
+        return judged(rule, pair) == value
     if len(value) != 4 or value[0] != "bad" or not is_wishes(value[1]) or not is_long_loss(value[2]):
         return False
     if not lets_from(rule, rule.names[0], value[2]):

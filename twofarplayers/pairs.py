@@ -72,10 +72,10 @@ def is_beginning(words, player):
 
 
 def is_state(words):
-    """Whether these are the words of the line of a state."""
+    """Whether these are, behind the word `state`, the words of the line of a state."""
     if len(words) != 8 or words[2] not in CALLS or words[3] not in END_OF:
         return False
-    return words[0] == "state" and all([is_name(name) for name in words[1:2] + words[4:]])
+    return all([is_name(name) for name in words[1:2] + words[4:]])
 
 
 def need_told_names(rows):
