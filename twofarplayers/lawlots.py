@@ -119,4 +119,4 @@ def shows_lets_all(rule, other, value):
     found = lets_all(rule, other)
     if type(value) is tuple and len(value) == 2 and value[0] == "parting":
         return is_loss(value[1]) and lets(rule, value[1]) and not lets(other, value[1])
-    return found == ("all",) and value == found
+    return value == found

@@ -190,7 +190,7 @@ def shows_solved(task, rounds, value):
     found = solved(task, rounds)
     if type(value) is tuple and len(value) == 2 and value[0] == "yes":
         return is_way(task, value[1], width(rounds))
-    return found == ("no",) and value == found
+    return value == found
 
 
 def least_solving(task, most):
