@@ -197,7 +197,7 @@ class Texts(Case):
                 near += [" ".join(words[:k] + words[k + 1:]) for k in range(6)] + [line + " a", line.replace("ends", "end")]
                 near += [" ".join(words[:k] + ["?"] + words[k + 1:]) for k in range(6)]
                 # Wishes that are not told, or of the other one.
-                others = (("u", "y"), ("x", "u"), ("y", "x"), ("a", "y"), ("x", "x"))
+                others = (("u", "y"), ("x", "u"), ("y", "x"), ("a", "y"), ("x", "x"), ("first", "y"), ("x", "second"), ("given", "ends"))
                 near += [" ".join(words[:1] + [one, other] + words[3:]) for one, other in others]
                 near += LINES[:at]
             for bent in near:
