@@ -2,10 +2,10 @@
 
 import random
 
+from tests.bench_samples import FIRST, HEARD, NO_LAWS, TEXTS, as_it_is, ring
 from tests.cases import Case
 from tests.pair_samples import TOLD
 from tests.samples import EVERY, NEVER, NO_LOSSES, NO_STRINGS, SURE, drawn_machines, machines_of_two, mild_machines
-from tests.test_lawlots import ring
 from twofarplayers.bench import Bench
 from twofarplayers.errors import BadLaw, BadLoss, NothingToRedo, NothingToUndo, NoTrial, PlayError, TooMany
 from twofarplayers.journals import journal, read_journal
@@ -14,33 +14,9 @@ from twofarplayers.lawlots import barring, both, either, turned
 from twofarplayers.pairs import Pair
 from twofarplayers.verdicts import can_agree
 
-HEARD = "law\nstate a\non n b\non f a\non s a\nstate b often\non n b\non f a\non s a"
-FIRST = "law\nstate a\non n b\non f a\non s b\nstate b often\non n b\non f a\non s b"
-TEXTS = (EVERY.text, NEVER.text, SURE.text, HEARD, FIRST)
-NO_LAWS = (("", 1), ("law", 2), (EVERY.text + "\n", 6), (EVERY.text.replace("on s a", "on s b"), 5), ("Law", 1), (HEARD[:-1] + "z", 9))
-
 
 class Stop(Exception):
     """What leaves a block in these tests."""
-
-
-def as_it_is(bench):
-    """All that can be seen of a bench, also of what can be undone and done again."""
-    seen = [journal(bench), bench.rule.text, bench.done, bench.verdict]
-    other = bench.copy()
-    while True:
-        try:
-            other.redo()
-        except NothingToRedo:
-            break
-        seen.append((journal(other), other.rule.text, other.done, other.verdict))
-    while True:
-        try:
-            other.undo()
-        except NothingToUndo:
-            break
-        seen.append((journal(other), other.rule.text, other.done, other.verdict))
-    return seen
 
 
 class Deeds(Case):

@@ -1,10 +1,8 @@
 """The desk: every form of line that it takes, and what it refuses."""
 
+from tests.bench_samples import FIRST, FLAT, HEARD, LINES, NO_LAWS, TEXTS, WHOLE, as_it_is, ring
 from tests.cases import Case
 from tests.samples import EVERY, Machine, NEVER, NO_STRINGS, SURE, losses_up_to, plain, words_up_to
-from tests.test_bench import FIRST, HEARD, NO_LAWS, TEXTS, as_it_is
-from tests.test_journals import FLAT, LINES, WHOLE
-from tests.test_lawlots import ring
 from twofarplayers.bench import Bench
 from twofarplayers.desk import Desk
 from twofarplayers.errors import (

@@ -183,11 +183,11 @@ import doctest
 import pathlib
 import sys
 
+from tests.bench_samples import FIRST, HEARD
 from tests.cases import Case
 from tests.pair_samples import ODD, RASH, TOLD
 from tests.samples import EVERY, NEVER, SURE
-from tests.test_bench import FIRST, HEARD
-from tests.test_tasks import ALIKE, APART
+from tests.task_samples import ALIKE, APART
 from twofarplayers.bench import Bench
 from twofarplayers.desk import Desk
 from twofarplayers.errors import BadLaw, BadPair, TooLong

@@ -7,7 +7,7 @@ import inspect
 from tests.cases import Case
 from tests.pair_samples import TOLD
 from tests.samples import EVERY, SURE
-from tests.test_tasks import APART
+from tests.task_samples import APART
 from twofarplayers.bench import Bench
 from twofarplayers.desk import Desk
 from twofarplayers.errors import PlayError

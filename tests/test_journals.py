@@ -2,20 +2,14 @@
 
 import random
 
+from tests.bench_samples import FIRST, FLAT, HEARD, LINES, NO_LAWS, TEXTS, WHOLE, as_it_is, ring
 from tests.cases import Case
 from tests.samples import EVERY, NEVER, NO_STRINGS, SURE, plain
-from tests.test_bench import FIRST, HEARD, NO_LAWS, TEXTS, as_it_is
-from tests.test_lawlots import ring
 from twofarplayers.bench import Bench
 from twofarplayers.errors import BadJournal, NothingToRedo, NoTrial, PlayError
 from twofarplayers.journals import journal, read_journal
 from twofarplayers.laws import Law
 from twofarplayers.lawlots import barring, both, either, turned
-
-FLAT = HEARD.replace("\n", ";")
-# Behind `bench` nine lines of a law, and then five deeds.
-LINES = ["bench"] + HEARD.split("\n") + ["turn", "bar nn sn", "meet " + FIRST.replace("\n", ";"), "widen " + FLAT, "bar - n"]
-WHOLE = "\n".join(LINES)
 
 
 class Written(Case):

@@ -2,6 +2,7 @@
 
 import itertools
 
+from tests.bench_samples import ring
 from tests.cases import Case
 from tests.samples import (
     EVERY, LONE, Machine, NEVER, NO_LOSSES, SURE, TWINS, VALUES, drawn_machines, letters, losses_up_to, machines_of_two,
@@ -20,11 +21,6 @@ SOME = TWO[::29] + drawn_machines(3, 10, 1) + drawn_machines(5, 6, 2) + mild_mac
 SOME += [machine_barring([loss]) for loss in LONE[::4]] + [machine_barring(list(pair)) for pair in TWINS[::3]]
 COUPLES = list(itertools.product(SOME[::2], SOME[1::2])) + list(zip(SOME, SOME))
 LOSSES = losses_up_to(1, 3) + [("nfs", "ns"), ("ffsn", "s"), ("nnff", "f"), ("", "nnfs"), ("sn", "ffsn"), ("nnn", "s"), ("nns", "f")]
-
-
-def ring(size, often=(0,)):
-    """A machine that goes round by so many states, whatever comes."""
-    return Machine([((at + 1) % size,) * 3 for at in range(size)], [at in often for at in range(size)])
 
 
 def grown(start, goal_of):

@@ -5,16 +5,11 @@ import random
 
 from tests.cases import Case
 from tests.samples import EVERY, NO_INTEGERS, NO_STRINGS, VALUES, nested, plain
+from tests.task_samples import ALIKE, APART
 from twofarplayers.errors import BadNumber, BadTask, NoPair
 from twofarplayers.tasks import Task, allowed, least_solving, shows_solved, solved
 
-APART = (
-    "task\nfirst x w\nsecond y z\ngiven x z ends a r\ngiven w y ends c q\n"
-    "given x y ends a p\ngiven x y ends b p\ngiven x y ends b q")
 LINES = APART.split("\n")
-ALIKE = (
-    "task\nfirst o i\nsecond o i\ngiven o o ends o o\ngiven i i ends i i\ngiven o i ends o o\ngiven o i ends i i\n"
-    "given i o ends o o\ngiven i o ends i i")
 WORDY = (
     "task\nfirst given ends first\nsecond task second zzzzzz\ngiven given task ends ends given\ngiven ends second ends task task\n"
     "given first zzzzzz ends a given\ngiven first task ends a b")
