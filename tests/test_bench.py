@@ -306,6 +306,59 @@ class Trials(Case):
                     else:
                         self.assertEqual(as_it_is(bench), kept)
 
+    def test_within_one_another_by_keeps_and_errors(self):
+        for outer in ("never", "early", "late"):
+            for inner in (False, True):
+                for left in ((), ("inner",), ("outer",), ("inner", "outer")):
+                    with self.subTest(outer=outer, inner=inner, left=left):
+                        self.two_blocks(outer, inner, left)
+
+    def two_blocks(self, outer, inner, left):
+        """A block within another one: when the outer one keeps, whether the inner one does, and which an error leaves."""
+        bench, error = self.bench(), Stop()
+        before = as_it_is(bench)
+        try:
+            with bench.trial():
+                bench.undo()
+                if outer == "early":
+                    bench.keep()
+                expected = self.inner_block(bench, inner, left, error)
+                if outer == "late":
+                    bench.keep()
+                if "outer" in left:
+                    raise error
+        except Stop as caught:
+            self.assertIs(caught, error)
+            self.assertIn("outer", left)
+        else:
+            self.assertNotIn("outer", left)
+        if "outer" in left or outer == "never":
+            expected = before
+        self.assertEqual(as_it_is(bench), expected)
+        self.refused(NoTrial, None, bench.keep)
+
+    def inner_block(self, bench, keeps, left, error):
+        """Goes through the inner block; how the bench should be, and is, behind it."""
+        expected = as_it_is(bench)
+        try:
+            with bench.trial():
+                bench.bar(("", "sf"))
+                bench.turn()
+                bench.undo()
+                if keeps:
+                    bench.keep()
+                    if "inner" not in left:
+                        expected = as_it_is(bench)
+                if "inner" in left:
+                    raise error
+        except Stop as caught:
+            self.assertIs(caught, error)
+            self.assertEqual(as_it_is(bench), expected)
+            if "outer" in left:
+                raise
+        self.assertEqual(as_it_is(bench), expected)
+        return expected
+
     def test_errors_that_leave_the_inner_block_alone(self):
         bench = self.bench()
         with bench.trial():

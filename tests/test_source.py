@@ -40,6 +40,20 @@ def bound_names(tree):
             yield node.arg
 
 
+def asks_of_none(test, names):
+    """Whether a test asks nothing but whether attributes, or names that are among these, are None."""
+    if isinstance(test, ast.BoolOp):
+        return all(asks_of_none(part, names) for part in test.values)
+    if isinstance(test, ast.UnaryOp) and isinstance(test.op, ast.Not):
+        return asks_of_none(test.operand, names)
+    if not isinstance(test, ast.Compare) or len(test.ops) != 1 or not isinstance(test.ops[0], (ast.Is, ast.IsNot)):
+        return False
+    right = test.comparators[0]
+    if not isinstance(right, ast.Constant) or right.value is not None:
+        return False
+    return isinstance(test.left, ast.Attribute) or (isinstance(test.left, ast.Name) and test.left.id in names)
+
+
 def top_names(tree):
     """The functions, classes and values that a file defines itself."""
     for node in tree.body:
@@ -124,3 +138,19 @@ class Source(Case):
                     self.assertNotIn(node.arg, taken, name)
                 elif isinstance(node, ast.Name) and isinstance(node.ctx, ast.Store):
                     self.assertNotIn(node.id, taken, name)
+
+    def test_ends_of_blocks(self):
+        exits = [node for _, _, tree in files() for node in ast.walk(tree)
+                 if isinstance(node, ast.FunctionDef) and node.name == "__exit__"]
+        self.assertTrue(exits)
+        for node in exits:
+            _, kind, value, trace = [part.arg for part in node.args.args]
+            names = [part for part in ast.walk(node) if isinstance(part, ast.Name)]
+            read = {part.id for part in names if isinstance(part.ctx, ast.Load)}
+            self.assertFalse(read & {value, trace})
+            asked = {kind} | {part.id for part in names if isinstance(part.ctx, ast.Store)}
+            for part in ast.walk(node):
+                self.assertNotIsInstance(part, (ast.Call, ast.For, ast.While, ast.Raise, ast.Subscript, ast.IfExp))
+                # Some classes can be compared, or measured: so nothing stands alone, or beside a literal, as a test.
+                if isinstance(part, ast.If):
+                    self.assertTrue(asks_of_none(part.test, asked), f"row {part.lineno}")

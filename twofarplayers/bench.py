@@ -11,7 +11,8 @@ class Trial:
 
     def __init__(self, bench):
         self.bench = bench
-        self.kept = False
+        # None, not False: where objects can be compared or measured, the end of a block only asks what is None.
+        self.kept = None
 
     def __enter__(self):
         bench = self.bench
@@ -27,7 +28,7 @@ class Trial:
     def __exit__(self, kind, value, trace):
         bench = self.bench
         bench.block = self.outer
-        if kind is not None or not self.kept:
+        if kind is not None or self.kept is None:
             bench.past = self.past
             bench.ahead = self.ahead
             bench.rule = self.rule
